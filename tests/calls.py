@@ -1,0 +1,82 @@
+"""Calls by their names, and the answers call by call."""
+
+from safegrants.works import answers
+
+MOST = 1000000000
+FAR = 1000000000000000000
+
+
+def call(place, numbers=(), rows=()):
+    flat = [place, len(numbers)] + list(numbers) + [len(rows)]
+    for row in rows:
+        flat += [len(row)] + list(row)
+    return flat
+
+
+def begin(*totals):
+    return call(0, (), [totals])
+
+
+def batch(number, *alternatives):
+    return call(1, (number,), alternatives)
+
+
+def ask(number, *things):
+    return call(2, (number,), [things])
+
+
+def give(number, *things):
+    return call(3, (number,), [things])
+
+
+def back(number, *things):
+    return call(4, (number,), [things])
+
+
+def end(number):
+    return call(5, (number,))
+
+
+def drop(number):
+    return call(6, (number,))
+
+
+def more(j, n):
+    return call(7, (j, n))
+
+
+SAFE = call(8)
+LOCKED = call(9)
+FREE = call(10)
+
+
+def joined(calls):
+    flat = []
+    for one in calls:
+        flat += one
+    return flat
+
+
+def split(told):
+    found = []
+    at = 0
+    while at < len(told):
+        size = told[at]
+        found.append(told[at + 1:at + 1 + size])
+        if len(found[-1]) != size:
+            raise ValueError("an answer ends too early")
+        at += 1 + size
+    return found
+
+
+def run(*calls):
+    """The answers of these calls on a new works, a list for each call."""
+    found = split(answers(joined(calls)))
+    if len(found) != len(calls):
+        raise ValueError("not one answer for each call")
+    return found
+
+
+def last(*calls):
+    """The last call's answer."""
+    return run(*calls)[-1]
