@@ -20,13 +20,24 @@ def fits_alternative(batch, held):
     return False
 
 
-def can_end(batch, free):
-    """Whether the batch can end with these things free."""
-    for alternative in batch.alternatives:
-        # An alternative that what's held has outgrown can't be reached by getting more.
-        if within(batch.held, alternative) and within(less(alternative, batch.held), free):
+def lacking(batch):
+    """What's lacking of each of the batch's alternatives that counts."""
+    # An alternative that what's held has outgrown can't be reached by getting more.
+    counts = [alternative for alternative in batch.alternatives if within(batch.held, alternative)]
+    return [less(alternative, batch.held) for alternative in counts]
+
+
+def one_is_within(lists, free):
+    """Whether one of these lists is within these things."""
+    for things in lists:
+        if within(things, free):
             return True
     return False
+
+
+def can_end(batch, free):
+    """Whether the batch can end with these things free."""
+    return one_is_within(lacking(batch), free)
 
 
 def goes_on(batch, free):

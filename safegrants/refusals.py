@@ -10,12 +10,14 @@ from safegrants.state import find_batch
 UNKNOWN_FORM = -9
 OUT_OF_RANGE = -1
 NO_SUCH_BATCH = -10
+NO_SUCH_ORDER = -10
 BAD_ROW = -2
 BATCH_EXISTS = -3
 WRONG_WAITING = -7
 WRONG_HOLDING = -4
 NOT_FREE = -5
 TOO_MANY = -6
+NOT_SAFE = -8
 
 MOST_BATCH_NUMBER = 1000000000
 
@@ -23,6 +25,21 @@ MOST_BATCH_NUMBER = 1000000000
 def is_batch_number(number):
     """Whether a batch may have this number."""
     return 1 <= number <= MOST_BATCH_NUMBER
+
+
+def is_kind(state, j):
+    """Whether there's a kind of this number."""
+    return 0 <= j < len(state.totals)
+
+
+def are_batches(state, numbers):
+    """Whether all of these are numbers of batches that are there, each once at most."""
+    seen = {}
+    for number in numbers:
+        if number in seen or find_batch(state.batches, number) is None:
+            return False
+        seen[number] = True
+    return True
 
 
 def batch_refusal(state, number):
@@ -44,7 +61,7 @@ def things_refusal(state, number, things):
 
 def copies_refusal(state, j, n):
     """The refusal that is due for n copies more of kind j."""
-    if j < 0 or j >= len(state.totals) or n < 1 or n > MOST_COPIES:
+    if not is_kind(state, j) or n < 1 or n > MOST_COPIES:
         return OUT_OF_RANGE
     if state.totals[j] + n > MOST_COPIES:
         return TOO_MANY

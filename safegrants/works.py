@@ -1,10 +1,13 @@
 """The calls on one works, and what they answer."""
 
 from safegrants.changes import ask, back, begin, drop, end, give, more, new_batch
-from safegrants.questions import tell_free, tell_locked, tell_safe
+from safegrants.limits import tell_lack, tell_room
+from safegrants.orders import count_orders, tell_order
+from safegrants.questions import tell_all, tell_blocks, tell_check, tell_could, tell_free, tell_locked, tell_safe
 from safegrants.reading import has_told_form, read_calls
 from safegrants.refusals import UNKNOWN_FORM
 from safegrants.state import State
+from safegrants.victims import tell_cheapest, tell_victims
 
 
 def answer_change(state, place, numbers, rows):
@@ -26,13 +29,33 @@ def answer_change(state, place, numbers, rows):
     return more(state, numbers[0], numbers[1])
 
 
-def answer_question(state, place):
-    """The answer of a call of the places 8 to 10."""
+def answer_question(state, place, numbers, rows):
+    """The answer of a call of the places 8 to 20."""
     if place == 8:
         return tell_safe(state)
     if place == 9:
         return tell_locked(state)
-    return tell_free(state)
+    if place == 10:
+        return tell_free(state)
+    if place == 11:
+        return tell_could(state, numbers[0], rows[0])
+    if place == 12:
+        return tell_room(state, numbers[0], numbers[1])
+    if place == 13:
+        return tell_lack(state, numbers[0])
+    if place == 14:
+        return tell_victims(state)
+    if place == 15:
+        return tell_cheapest(state, rows[0])
+    if place == 16:
+        return count_orders(state)
+    if place == 17:
+        return tell_order(state, numbers[0])
+    if place == 18:
+        return tell_check(state, rows[0])
+    if place == 19:
+        return tell_blocks(state, rows[0])
+    return tell_all(state)
 
 
 def answer_call(state, call):
@@ -41,7 +64,7 @@ def answer_call(state, call):
         return [UNKNOWN_FORM]
     if call.place <= 7:
         return answer_change(state, call.place, call.numbers, call.rows)
-    return answer_question(state, call.place)
+    return answer_question(state, call.place, call.numbers, call.rows)
 
 
 def answers(calls):

@@ -45,9 +45,40 @@ def more(j, n):
     return call(7, (j, n))
 
 
+def could(number, *things):
+    return call(11, (number,), [things])
+
+
+def room(number, j):
+    return call(12, (number, j))
+
+
+def lack(j):
+    return call(13, (j,))
+
+
+def cheapest(*costs):
+    return call(15, (), [costs])
+
+
+def order(k):
+    return call(17, (k,))
+
+
+def check(*numbers):
+    return call(18, (), [numbers])
+
+
+def blocks(*numbers):
+    return call(19, (), [numbers])
+
+
 SAFE = call(8)
 LOCKED = call(9)
 FREE = call(10)
+VICTIMS = call(14)
+ORDERS = call(16)
+TOLD = call(20)
 
 
 def joined(calls):

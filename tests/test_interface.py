@@ -8,11 +8,16 @@ import unittest
 
 import safegrants.works
 from safegrants.works import answers
-from tests.calls import FAR, FREE, LOCKED, MOST, SAFE
-from tests.calls import ask, back, batch, begin, call, drop, end, give, joined, more, run
+from tests.calls import FAR, FREE, LOCKED, MOST, ORDERS, SAFE, TOLD, VICTIMS
+from tests.calls import ask, back, batch, begin, blocks, call, cheapest, check, could, drop, end, give, joined, lack
+from tests.calls import more, order, room, run
 
 LONG = [begin(3, 1), batch(1, [3, 1], [2, 0]), batch(2, [3, 0]), ask(1, 1, 1), ask(2, 3, 0), give(2, 1, 0), FREE, SAFE]
-LONG += [LOCKED, back(2, 1, 0), drop(2), ask(2, 3, 0), more(1, 2), end(1), SAFE, FREE]
+ASKED = [could(1, 1, 0), could(2, 1, 0), could(2, 0, 1), room(1, 0), room(2, 0), lack(0), lack(1), VICTIMS]
+ASKED += [cheapest(1, 3, 2, 1), ORDERS, order(0), order(1), check(1, 2), check(2, 1), blocks(1, 2), blocks(2), TOLD]
+ASKED += [could(0), room(1, 9), lack(-1), cheapest(1), order(-1), check(3), blocks(2, 2)]
+LONG += ASKED
+LONG += [LOCKED, back(2, 1, 0), drop(2), *ASKED, ask(2, 3, 0), more(1, 2), *ASKED, end(1), SAFE, FREE]
 
 
 class Watched(list):
@@ -63,6 +68,65 @@ class HowItIsRead(unittest.TestCase):
         ]
         self.assertEqual(answers(calls), told)
 
+    def test_questions_written_out(self):
+        calls = [
+            0, 0, 1, 2, 4, 1,
+            1, 1, 8, 2, 2, 4, 0, 2, 3, 1,
+            1, 1, 5, 1, 2, 4, 0,
+            3, 1, 8, 1, 2, 2, 0,
+            2, 1, 5, 1, 2, 3, 0,
+            11, 1, 5, 1, 2, 1, 0,
+            11, 1, 8, 1, 2, 1, 1,
+            12, 2, 8, 0, 0,
+            13, 1, 0, 0,
+            14, 0, 0,
+            15, 0, 1, 2, 8, 3,
+            16, 0, 0,
+            17, 1, 0, 0,
+            18, 0, 1, 2, 8, 5,
+            18, 0, 1, 1, 5,
+            19, 0, 1, 0,
+            20, 0, 0,
+            3, 1, 5, 1, 2, 2, 0,
+            12, 2, 8, 0, 0,
+            13, 1, 0, 0,
+            13, 1, 1, 0,
+            14, 0, 0,
+            15, 0, 1, 4, 8, 3, 5, 2,
+            16, 0, 0,
+            17, 1, 0, 0,
+            19, 0, 1, 2, 5, 8,
+        ]
+        told = [
+            1, 0,
+            1, 0,
+            1, 0,
+            1, 1,
+            1, 0,
+            1, 0,
+            1, 0,
+            1, 2,
+            2, 1, 0,
+            1, 0,
+            2, 0, 0,
+            1, 1,
+            2, 8, 5,
+            2, 0, 2,
+            2, 1, 5,
+            1, 0,
+            23, 2, 4, 1, 2, 8, 2, 4, 0, 3, 1, 2, 0, 0, 5, 1, 4, 0, 0, 0, 1, 0, 3, 0,
+            1, 0,
+            1, -8,
+            2, 1, 1,
+            1, 0,
+            2, 1, 5,
+            3, 2, 1, 5,
+            1, 0,
+            1, -10,
+            1, 1,
+        ]
+        self.assertEqual(answers(calls), told)
+
     def test_one_call(self):
         self.assertEqual(answers(SAFE), [2, 1, 0])
         self.assertEqual(answers(LOCKED), [1, 0])
@@ -85,6 +149,10 @@ class HowItIsRead(unittest.TestCase):
         wrong += [call(2, (), [[1]])]
         wrong += [call(3, (1,), [[1], [1]]), call(4, (1, 1), [[1]]), call(5), call(5, (1,), [[]]), call(6, (1, 1))]
         wrong += [call(7, (0,)), call(7, (0, 1), [[]]), call(9, (0,)), call(10, (), [[]])]
+        wrong += [call(11, (1,)), call(11, (), [[1]]), call(11, (1,), [[1], [1]]), call(12, (1,)), call(12, (1, 0), [[]])]
+        wrong += [call(13), call(13, (0, 0)), call(13, (0,), [[]]), call(14, (0,)), call(14, (), [[]]), call(15)]
+        wrong += [call(15, (1,), [[]]), call(15, (), [[], []]), call(16, (0,)), call(17), call(17, (0,), [[]])]
+        wrong += [call(18), call(18, (1,), [[]]), call(19), call(19, (), [[], []]), call(20, (0,)), call(20, (), [[]])]
         found = run(*common, *wrong, FREE, SAFE)
         self.assertEqual(found[3:], [[-9]] * len(wrong) + [[2], [1, 1, 1]])
 
@@ -186,6 +254,30 @@ class AsLongAsTheyMayBe(unittest.TestCase):
         self.assertEqual(found[11:21], [[1]] + [[0]] * 9)
         self.assertEqual(found[21:24], [[-6], [0, 1, 2], [0]])
         self.assertEqual(found[24:27], [[-6], [-4], [-7]])
+
+    def test_long_rows_of_questions(self):
+        for place, numbers in ((11, (1,)), (15, ()), (18, ()), (19, ())):
+            told = self.shallow(joined([begin(1), batch(1, [1]), call(place, numbers, [[1] * 3998]), SAFE]))
+            self.assertEqual(told, [1, 0, 1, 0, 1, -2, 3, 1, 1, 1])
+
+    def test_questions_on_a_full_works(self):
+        totals = [MOST] * 6
+        comes = [batch(k, totals, totals, totals, totals) for k in range(1, 11)]
+        gives = [give(k, 0, 0, 0, 0, 0, 1) for k in range(1, 11)]
+        costs = [number for k in range(1, 11) for number in (k, MOST)]
+        named = range(1, 11)
+        asked = [could(1, *totals), could(1, 1, 0, 0, 0, 0, 0), room(1, 5), lack(5), lack(0), VICTIMS, cheapest(*costs)]
+        asked += [ORDERS, order(0), check(*named), blocks(*named)]
+        told = self.shallow(joined([begin(*totals), *comes, *gives, *asked]))
+        stuck = [10, *named]
+        wanted = [[0]] * 11 + [[1]] + [[0]] * 9 + [[1], [3, *stuck], [-8], [1, 9], [0], [9, *range(1, 10)]]
+        wanted += [[9 * MOST, 9, *range(1, 10)], [0], [-10], [1, 1], [1]]
+        self.assertEqual(told, joined([len(answer), *answer] for answer in wanted))
+
+    def test_orders_of_ten_over_and_over(self):
+        comes = [batch(k, [1], [1], [1], [1]) for k in range(1, 11)]
+        told = self.shallow(joined([begin(1), *comes, *[ORDERS] * 20, *[order(3628799)] * 20]))
+        self.assertEqual(told, [1, 0] * 11 + [1, 3628800] * 20 + [10, 10, 9, 8, 7, 6, 5, 4, 3, 2, 1] * 20)
 
 
 if __name__ == "__main__":

@@ -241,6 +241,80 @@ class Statements(unittest.TestCase):
             if isinstance(node, ast.Try):
                 self.assertEqual(node.finalbody, [], (name, node.lineno))
 
+    def test_defaults_and_annotations_are_left_out(self):
+        for name, node in each_node():
+            if isinstance(node, ast.arguments):
+                self.assertEqual(node.defaults + node.kw_defaults, [], name)
+            if isinstance(node, ast.arg):
+                self.assertIsNone(node.annotation, (name, node.lineno))
+            if isinstance(node, ast.FunctionDef):
+                self.assertIsNone(node.returns, (name, node.lineno))
+
+    def test_one_plain_target(self):
+        for name, node in each_node():
+            if isinstance(node, ast.Assign):
+                self.assertIsInstance(node.targets[0], (ast.Name, ast.Attribute, ast.Subscript), (name, node.lineno))
+
+    def test_keywords(self):
+        told = {"sorted": ["key", "reverse"], "min": ["key", "default"], "max": ["key", "default"], "sum": ["start"]}
+        told["enumerate"] = ["start"]
+        told["zip"] = ["strict"]
+        for name, node in each_node():
+            if isinstance(node, ast.Call):
+                for given in node.keywords:
+                    self.assertIn(given.arg, told.get(getattr(node.func, "id", ""), []), (name, node.lineno))
+
+    def test_lambdas_do_not_share_a_row(self):
+        rows = [(name, node.lineno) for name, node in each_node() if isinstance(node, ast.Lambda)]
+        self.assertEqual(len(rows), len(set(rows)))
+
+    def test_no_sets_and_no_powers(self):
+        for name, node in each_node():
+            if isinstance(node, ast.Name):
+                self.assertNotIn(node.id, ("set", "frozenset"), (name, node.lineno))
+            self.assertNotIsInstance(node, (ast.Set, ast.Pow), name)
+
+    def test_no_per_cent_within_a_text(self):
+        for name, node in each_node():
+            if isinstance(node, ast.Constant) and isinstance(node.value, str):
+                self.assertNotIn("%", node.value, (name, node.lineno))
+
+    def test_walked_on_the_spot(self):
+        walkers = ("zip", "enumerate", "reversed", "range")
+        takers = ("list", "tuple", "dict", "sorted", "sum", "any", "all", "enumerate", "zip", "min", "max")
+        for name, tree in trees():
+            walked = []
+            for node in ast.walk(tree):
+                if isinstance(node, (ast.For, ast.comprehension)):
+                    walked.append(node.iter)
+                if isinstance(node, ast.Call) and getattr(node.func, "id", "") in takers:
+                    walked += node.args[:1]
+            for node in ast.walk(tree):
+                if isinstance(node, ast.Call) and getattr(node.func, "id", "") in walkers:
+                    self.assertIn(node, walked, (name, node.lineno))
+                if isinstance(node, ast.Call) and getattr(node.func, "attr", "") in ("items", "keys", "values"):
+                    self.assertIn(node, walked, (name, node.lineno))
+
+    def test_what_a_loop_walks_is_not_changed_in_it(self):
+        changes = ("append", "clear", "extend", "insert", "pop", "remove", "reverse", "setdefault", "update")
+        for name, node in each_node():
+            if isinstance(node, ast.For):
+                walked = [part.id for part in ast.walk(node.iter) if isinstance(part, ast.Name)]
+                for part in ast.walk(node):
+                    if isinstance(part, ast.Call) and getattr(part.func, "attr", "") in changes:
+                        self.assertNotIn(getattr(part.func.value, "id", ""), walked, (name, part.lineno))
+                    if isinstance(part, ast.Subscript) and isinstance(part.ctx, ast.Store):
+                        self.assertNotIn(getattr(part.value, "id", ""), walked, (name, part.lineno))
+
+    def test_nothing_is_kept_at_the_top_of_a_file(self):
+        for name, tree in trees():
+            for node in tree.body:
+                if isinstance(node, ast.Assign):
+                    value = ast.literal_eval(node.value)
+                    parts = list(value.values()) if isinstance(value, dict) else value
+                    if isinstance(parts, (list, tuple)):
+                        self.assertFalse(any(isinstance(part, (list, dict)) for part in parts), (name, node.lineno))
+
     def test_is_stands_beside_none_true_and_false_alone(self):
         for name, node in each_node():
             if isinstance(node, ast.Compare) and isinstance(node.ops[0], (ast.Is, ast.IsNot)):
